@@ -1,0 +1,1 @@
+"""Rules that find places in syntax trees."""
