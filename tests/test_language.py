@@ -26,10 +26,11 @@ LIBRARY = {
     "math": {"gcd", "lcm", "isqrt", "comb", "perm", "factorial"},
     "itertools": {"product", "combinations", "permutations"},
 }
-BARRED_NODES = (ast.Global, ast.AsyncFor, ast.AsyncFunctionDef, ast.AsyncWith, ast.Await, ast.Import, ast.Div, ast.MatMult)
-BARRED_WORDS = re.compile(r"\b(type|typing|typing_extensions|enum|Enum|IntEnum|StrEnum|Flag|IntFlag|Generic|Protocol|ABC"
-                          r"|ABCMeta|namedtuple|NamedTuple|TypedDict|TYPE_CHECKING|abstractmethod)\b")
-BARRED_TEXTS = ("dataclass", "overload", "contextmanager", "(type)", "Meta", "metaclass=", "_wa" + "ll", "_Wa" + "llAttr")
+BARRED_NODES = (ast.Global, ast.AsyncFor, ast.AsyncFunctionDef, ast.AsyncWith, ast.Await, ast.Import, ast.Div,
+                ast.MatMult)
+BARRED_WORDS = re.compile(r"\b(type|typing|typing_extensions|enum|Enum|IntEnum|StrEnum|Flag|IntFlag|Generic|Protocol"
+                          r"|ABC|ABCMeta|namedtuple|NamedTuple|TypedDict|TYPE_CHECKING|abstractmethod)\b")
+BARRED_TEXTS = ("dataclass", "overload", "contextmanager", "(type)", "Meta", "metaclass=", "_wall", "_WallAttr")
 BARRED_NAMES = set("""
     register mro elements open input law version_info with_traceback add_note attrgetter breakpoint builtins compile
     copyright credits delattr dir eval exec exit gc getattr globals hasattr help id importlib license locals
@@ -43,7 +44,8 @@ BARRED_ATTRIBUTES = set("""
 
 def files():
     """Pairs of the name and the text of each file of the package."""
-    return [(str(path.relative_to(PACKAGE)), path.read_bytes().decode("utf-8")) for path in sorted(PACKAGE.rglob("*.py"))]
+    paths = sorted(PACKAGE.rglob("*.py"))
+    return [(str(path.relative_to(PACKAGE)), path.read_bytes().decode("utf-8")) for path in paths]
 
 
 def nodes():
@@ -96,8 +98,8 @@ class LanguageTest(unittest.TestCase):
         for name, text in files():
             for node in ast.parse(text).body:
                 is_docstring = isinstance(node, ast.Expr) and isinstance(node.value, ast.Constant)
-                self.assertTrue(is_docstring or isinstance(node, (ast.ImportFrom, ast.FunctionDef, ast.ClassDef, ast.Assign)),
-                                name)
+                is_statement = isinstance(node, (ast.ImportFrom, ast.FunctionDef, ast.ClassDef, ast.Assign))
+                self.assertTrue(is_docstring or is_statement, name)
 
     def test_decorators(self):
         for name, node in nodes():

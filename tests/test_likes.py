@@ -137,7 +137,8 @@ class LikeTest(Case):
             with self.subTest(label):
                 self.check_raises(InvalidPart, {"part": 0}, lambda: Like("A", part))
                 self.check_raises(InvalidPart, {"part": 1}, lambda: Like("A", Word("x"), part, LEAF))
-                self.check_raises(InvalidPart, {"part": 3}, lambda: Like("A", (Rest("r"),), Var("x"), (), part, part, 0))
+                ahead = ((Rest("r"),), Var("x"), ())
+                self.check_raises(InvalidPart, {"part": 3}, lambda: Like("A", *ahead, part, part, 0))
 
     def test_lengths_of_texts(self):
         for text in ("x" * 60, "\\" * 60, '"' * 60, "\n" * 60):

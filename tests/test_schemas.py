@@ -70,7 +70,8 @@ class SchemaTest(Case):
 
     def test_other_names(self):
         schema = Schema(*some_forms())
-        for name in ("", "stmt", "seq", "Seq ", "raw_", "raw_Seq", "raw_text", "raw_raw_stmt", "raw_stmt*", "text", "a\n"):
+        for name in ("", "stmt", "seq", "Seq ", "raw_", "raw_Seq", "raw_text", "raw_raw_stmt", "raw_stmt*", "text",
+                     "Seq\n"):
             with self.subTest(name):
                 self.assertTrue((name in schema) is False)
                 self.check_raises(UnknownName, {"word": name}, lambda: schema[name])
