@@ -1,6 +1,6 @@
 """Tests of what a value of any kind is.
 
-None of them looks deeper into a value than its first level, so they end quickly for every value.
+None of them looks deeper into a value than it has to, so they end quickly for every value.
 """
 
 LETTERS = "ABCDEFGHIJKLMNOPQRSTUVWXYZabcdefghijklmnopqrstuvwxyz"
@@ -39,3 +39,31 @@ def sort_taken(takes):
     if takes.endswith(ROW_SIGN):
         return takes[:-1]
     return takes
+
+
+def is_word(value, words):
+    """Tell if a value is one of some texts."""
+    return isinstance(value, str) and value in words
+
+
+def is_told(value, many, words):
+    """Tell if a value is a tuple of so many items that begins with one of some texts."""
+    return isinstance(value, tuple) and len(value) == many and is_word(value[0], words)
+
+
+def is_same(value, wanted):
+    """Tell if a value of any kind is the wanted one, which consists of tuples, texts, numbers and None."""
+    if isinstance(wanted, tuple):
+        if not isinstance(value, tuple) or len(value) != len(wanted):
+            return False
+        return all([is_same(item, part) for item, part in zip(value, wanted)])
+    if isinstance(wanted, str):
+        return isinstance(value, str) and value == wanted
+    if is_number(wanted):
+        return is_number(value) and value == wanted
+    return value is None
+
+
+def are_numbers(value):
+    """Tell if a value is a tuple of integers."""
+    return isinstance(value, tuple) and all([isinstance(item, int) and not isinstance(item, bool) for item in value])

@@ -150,20 +150,29 @@ def _is_like_part(part):
         return len(part) <= MAX_TEXT
     if isinstance(part, tuple):
         return _is_like_row(part)
-    return isinstance(part, Word) or _is_node(part)
+    return isinstance(part, Word) or is_node(part)
 
 
 def _is_like_row(row):
     """Tell if a tuple holds nodes alone, or nodes and a Rest behind them."""
-    items = row
-    if len(row) > 0 and isinstance(row[-1], Rest):
-        items = row[:-1]
-    return all([_is_node(item) for item in items])
+    return all([is_node(item) for item in row_items(row)])
 
 
-def _is_node(value):
+def is_node(value):
     """Tell if a value can stand for a node of a pattern."""
     return isinstance(value, (Like, Tree, Var))
+
+
+def is_variable(value):
+    """Tell if a value is a variable of a pattern."""
+    return isinstance(value, (Var, Word, Rest))
+
+
+def row_items(row):
+    """Return the items of a row without the Rest behind them."""
+    if len(row) > 0 and isinstance(row[-1], Rest):
+        return row[:-1]
+    return row
 
 
 def _nodes_among(parts):
@@ -171,7 +180,7 @@ def _nodes_among(parts):
     nodes = []
     for part in parts:
         row = part if isinstance(part, tuple) else (part,)
-        nodes.extend([item for item in row if _is_node(item)])
+        nodes.extend([item for item in row if is_node(item)])
     return tuple(nodes)
 
 
@@ -217,11 +226,11 @@ def _exchanged(parts, number, node):
 
 def _node_text(form, parts):
     """Return the text of a node; those of the nodes below it are known already."""
-    inner = ", ".join([_part_text(part) for part in parts])
+    inner = ", ".join([part_text(part) for part in parts])
     return f"{form}({inner})"
 
 
-def _part_text(part):
+def part_text(part):
     """Return the text of a part of a node."""
     if isinstance(part, str):
         return _quoted(part)

@@ -119,10 +119,11 @@ class LanguageTest(unittest.TestCase):
 
     def test_builtins(self):
         for name, node in nodes():
-            if isinstance(node, ast.Name) and hasattr(builtins, node.id):
+            # A doctest that ran before leaves `_` among the builtins.
+            if isinstance(node, ast.Name) and node.id != "_" and hasattr(builtins, node.id):
                 self.assertIsInstance(node.ctx, ast.Load, name)
                 self.assertIn(node.id, BUILTINS, name)
-            if isinstance(node, ast.arg):
+            if isinstance(node, ast.arg) and node.arg != "_":
                 self.assertFalse(hasattr(builtins, node.arg), name + " " + node.arg)
 
     def test_names(self):
