@@ -61,8 +61,7 @@ class Chart:
             for after in self.following[number]:
                 if after not in before:
                     before[after] = number
-                    # The steps from the start are made first, so none is left if a way comes back to it.
-                    if after not in is_avoided and after != start:
+                    if after not in is_avoided:
                         waiting.append(after)
         return before
 

@@ -1,4 +1,7 @@
-"""Conditions under which a rule finds a node that fits its pattern."""
+"""Conditions under which a rule finds a node that fits its pattern.
+
+Each class has the operators in its own body, because the interface is to stand there and not only in a base class.
+"""
 
 from ruleengine.errors import InvalidPart
 from ruleengine.trees import is_node

@@ -63,7 +63,7 @@ def _is_found(scene, probe, number, bound, value):
     if not is_told(value, 4, ("at",)):
         return False
     place = scene.layout.number_at(value[1])
-    if place is None or place not in scene.places(probe, number) or not is_in(place, scene.fitting(probe, bound)):
+    if place not in scene.places(probe, number) or not is_in(place, scene.fitting(probe, bound)):
         return False
     if not is_binding(value[2], scene.entry(probe, place)):
         return False

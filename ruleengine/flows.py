@@ -87,14 +87,11 @@ class Flow:
         start, avoided, goal = _question_numbers(chart, question)
         if not is_told(answer, 2, ("path", "closed")):
             raise InvalidAnswer("form")
-        points = answer[1] if isinstance(answer[1], tuple) else (None,)
-        numbers = [chart.number_of(point) for point in points]
-        if None in numbers:
-            raise InvalidAnswer(answer[0])
+        numbers = _told_numbers(chart, answer[1])
         if answer[0] == "path":
-            is_right = _is_way(chart, start, avoided, goal, numbers)
+            is_right = numbers is not None and _is_way(chart, start, avoided, goal, numbers)
         else:
-            is_right = _is_closed(chart, start, avoided, goal, numbers)
+            is_right = numbers is not None and _is_closed(chart, start, avoided, goal, numbers)
         if not is_right:
             raise InvalidAnswer(answer[0])
         return answer[0]
@@ -194,6 +191,14 @@ def _question_numbers(chart, question):
         raise InvalidPoint(question.avoid)
     avoided = [_point_number(chart, point) for point in question.avoid]
     return start, avoided, _point_number(chart, question.goal)
+
+
+def _told_numbers(chart, value):
+    """Return the numbers of the points in a tuple; None for any other value."""
+    if not isinstance(value, tuple):
+        return None
+    numbers = [chart.number_of(point) for point in value]
+    return None if None in numbers else numbers
 
 
 def _node_number(chart, path):

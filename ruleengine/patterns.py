@@ -114,8 +114,9 @@ def covers(one, other):
     replacement = _replacement(one, other)
     if replacement is not None:
         return "instance", replacement
+    taken = one.all_taken()
     tree = None
-    for tree in each_witness(one.schema, one.root, other.root, one.all_taken()):
+    for tree in each_witness(one.schema, one.root, other.root, taken):
         if walk(one.schema, other.root, tree, {})[0] is None:
             break
     return "tree", tree

@@ -18,6 +18,16 @@ class Thing:
     """An object of a class of the caller."""
 
 
+class Agreeable:
+    """An object that is equal to all values."""
+
+    def __eq__(self, other):
+        return True
+
+    def __hash__(self):
+        return hash("x")
+
+
 def nested(kind):
     """A value that is nested 300 levels deep."""
     value = "a"
@@ -57,6 +67,11 @@ def odd_values():
     ]
 
 
+def odd_arguments():
+    """The odd values, and one that is equal to each value that is wanted."""
+    return odd_values() + [("an agreeable thing", Agreeable())]
+
+
 def names():
     """Texts that are names."""
     some = ["a", "Z", "text", "raw", "raw_x", "Raw_x", "a_", "a__1", "A9", "x" * 20, "x" + "_" * 19, "x" + "1" * 19]
@@ -74,7 +89,7 @@ def other_texts():
 
 def not_names():
     """Pairs of a label and a value that is no name."""
-    return odd_values() + [(ascii(text[:30]), text) for text in other_texts()]
+    return odd_arguments() + [(ascii(text[:30]), text) for text in other_texts()]
 
 
 def is_same(found, wanted):

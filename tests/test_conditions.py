@@ -5,7 +5,7 @@ import unittest
 from ruleengine.conditions import All, Condition, Has, Inside, Not, Some
 from ruleengine.errors import InvalidPart
 from ruleengine.trees import Like, Tree
-from tests.helpers import Case, odd_values
+from tests.helpers import Case, odd_arguments
 from tests.samples import ONE, R, U, W, X, expr, p_call, p_neg, some_things
 
 ROOTED = (Has, Inside)
@@ -20,7 +20,7 @@ class ConditionTest(Case):
 
     def odd_conditions(self):
         """Pairs of a label and a value that is no condition."""
-        return odd_values() + some_things() + [
+        return odd_arguments() + some_things() + [
             ("a tree", ONE), ("a Var", X), ("a Like", p_neg(X)), ("a class", Has), ("a tuple", (HAS,)),
             ("a list", [HAS])]
 
@@ -41,14 +41,14 @@ class ConditionTest(Case):
     def test_wrong_roots(self):
         others = [("a row", (X,)), ("a condition", HAS), ("a text", "Num")]
         for kind in ROOTED:
-            for label, root in odd_values() + some_things() + others:
+            for label, root in odd_arguments() + some_things() + others:
                 with self.subTest(kind.__name__ + " " + label):
                     self.check_part("root", lambda: kind(root))
                     self.check_part("root", lambda: kind(root, HAS, sort="expr"))
 
     def test_nothing_else_is_checked_of_the_root(self):
         for kind in ROOTED:
-            for _, sort in odd_values():
+            for _, sort in odd_arguments():
                 self.assertEqual(kind(X, sort=sort).nesting, 1)
                 self.assertEqual(kind(p_neg(X), HAS, sort=sort).nesting, 2)
 

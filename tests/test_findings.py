@@ -6,7 +6,7 @@ from ruleengine.conditions import All, Has, Inside, Not, Some
 from ruleengine.errors import InvalidAnswer, InvalidPath, UnknownName, WrongTree
 from ruleengine.rules import Finding, Rule, RuleSet
 from ruleengine.trees import Tree, Var, Word
-from tests.helpers import Case, nested, odd_values, repeated
+from tests.helpers import Agreeable, Case, nested, odd_arguments, repeated
 from tests.samples import (
     ONE, PASS, R, S, SCHEMA, THREE, TWO, U, W, X, Y, add, call, let, make_schema, neg, negs, p_add, p_call, p_neg,
     p_num, some_things)
@@ -90,6 +90,10 @@ class RunTest(Case):
         self.assertEqual(paths(one_rule(S, Has(p_neg(X), Inside(p_call(W, p_neg(X), R))), "stmt")), [])
         self.assertEqual(paths(one_rule(p_num(W), Inside(p_add(X, Y), Has(p_num(W))))), [(0, 0, 0), (0, 1)])
         self.assertEqual(paths(one_rule(p_num(W), Inside(p_add(X, p_num(W)), Inside(S, sort="stmt")))), [(0, 1)])
+        tree = add(add(ONE, neg(ONE)), add(neg(THREE), TWO))
+        self.assertEqual(paths(one_rule(p_num(W), Inside(p_add(X, Y), Has(p_neg(p_num(W))))), tree),
+                         [(0, 0), (0, 1, 0), (1, 0, 0)])
+        self.assertEqual(paths(one_rule(p_num(W), Inside(p_add(X, Y), -Has(p_neg(p_num(W))))), tree), [(1, 1)])
 
     def test_only_the_inner_condition_knows_the_larger_binding(self):
         both = Has(p_neg(Y)) & Has(p_num(Word("y")))
@@ -269,7 +273,7 @@ class JudgeTest(Case):
     def test_faults_of_arguments(self):
         rules = one_rule(p_neg(X))
         wrong = Tree("Num")
-        for label, value in odd_values() + [("a text", "b"), ("a name", "neg"), ("a tree", ONE)]:
+        for label, value in odd_arguments() + [("a text", "b"), ("a name", "neg"), ("a tree", ONE)]:
             with self.subTest(label):
                 for call_it in (lambda: rules.judge(value, TREE, ()), lambda: rules.judge(value, wrong, value),
                                 lambda: rules.check(value, TREE, (), None),
@@ -296,7 +300,7 @@ class CheckTest(Case):
 
     def test_wrong_forms(self):
         for rules in (one_rule(p_neg(X)), one_rule(p_neg(X), Has(TWO))):
-            values = odd_values() + some_things() + [
+            values = odd_arguments() + some_things() + [
                 ("found alone", ("found",)), ("found of two", ("found", {})),
                 ("found of four", ("found", {}, None, None)),
                 ("not alone", ("not",)), ("not of three", ("not", MISFIT, None)), ("a list", ["not", MISFIT]),
@@ -312,7 +316,7 @@ class CheckTest(Case):
         rules = one_rule(p_call(W, X, R))
         right = {"w": "f", "x": TWO, "r": (neg(TWO),)}
         self.assertEqual(rules.check("a", TREE, (3,), ("found", right, None)), "found")
-        values = odd_values() + some_things() + [
+        values = odd_arguments() + some_things() + [
             ("a Like", p_num("2")), ("its text", 'Num("2")'), ("a Var", X), ("a Word", Word("f")),
             ("another text", "g"),
             ("another tree", THREE), ("another row", (TWO,)), ("no row", ()), ("a longer row", (neg(TWO), neg(TWO))),
@@ -327,7 +331,8 @@ class CheckTest(Case):
             self.check_wrong("binding", rules, (3,), ("found", {**less, name + "_": right[name]}, None))
         self.check_wrong("binding", rules, (3,), ("found", {**right, "y": ONE}, None))
         self.check_wrong("binding", rules, (3,), ("found", {**right, 1: ONE}, None))
-        for label, value in odd_values() + [("pairs", tuple(right.items())), ("a list of pairs", list(right.items()))]:
+        for label, value in odd_arguments() + [("pairs", tuple(right.items())),
+                                               ("a list of pairs", list(right.items()))]:
             with self.subTest(label):
                 self.check_wrong("binding", rules, (3,), ("found", value, None))
         self.check_wrong("binding", rules, (0,), ("found", {}, None))
@@ -336,7 +341,7 @@ class CheckTest(Case):
 
     def test_reasons_without_a_condition(self):
         rules = one_rule(p_neg(X))
-        for label, value in odd_values() + [("grounds", ("each", ())), ("grounds of Has", ("at", (0,), {}, None))]:
+        for label, value in odd_arguments() + [("grounds", ("each", ())), ("grounds of Has", ("at", (0,), {}, None))]:
             if value is not None:
                 with self.subTest(label):
                     self.check_wrong("reason", rules, (0, 0), ("found", {"x": ONE}, value))
@@ -350,19 +355,30 @@ class CheckTest(Case):
         rules = one_rule(p_call("f", X, p_neg(ONE)))
         right = ((1, 0), "value", "text")
         self.assertEqual(rules.check("a", TREE, (3,), ("not", ("mismatch", right))), "not")
-        firsts = [value for _, value in odd_values()] + [
+        firsts = [value for _, value in odd_arguments()] + [
             ((1, 0), "value"), ((1, 0), "value", "text", None), ((1,), "value", "text"), ((3, 1, 0), "value", "text"),
             ((True, 0), "value", "text"), ((1, False), "value", "text"), ([1, 0], "value", "text"),
             [(1, 0), "value", "text"],
             ((1, 0), None, "text"), ((1, 0), "what", "text"), ((1, 0), "value", "equal"), ((1, 0), "value", "form"),
             ((), None, "form"), ((1, 0, 0), "value", "text"), (None, "value", "text"), ((1, 0), ("value",), "text"),
             ((1, 0), b"value", "text"), ((1, 0), "value", None), (repeated(tuple), "value", "text"),
+            ((0, 0), "value", "text"), ((1, 1), "value", "text"), (Agreeable(), "value", "text"),
+            ((1, Agreeable()), "value", "text"), ((1, 0), Agreeable(), "text"), ((1, 0), "value", Agreeable()),
             ((1, 0), repeated(tuple), "text"), ((1, 0), "value", repeated(list)), ((1, 0), "value", True), None]
         for first in firsts:
             self.check_wrong("reason", rules, (3,), ("not", ("mismatch", first)))
         for reason in (right, ("mismatch", right, None), ("mismatch",), ["mismatch", right], ("misfit", right),
                        ("condition", right), ("mismatch", ("mismatch", right))):
             self.check_wrong("reason", rules, (3,), ("not", reason))
+
+    def test_wrong_words_for_a_refutation(self):
+        rules = one_rule(p_neg(X), Has(p_neg(Y)))
+        right = ("nowhere", (((0, 0, 0), MISFIT),))
+        self.assertEqual(rules.check("a", TREE, (0, 0), ("not", ("condition", right))), "not")
+        for reason in (("mismatch", right), ("inner", right), ("conditions", right), ["condition", right],
+                       (None, right),
+                       ("condition", right, None), right, ("condition",), (Agreeable(), right), Agreeable()):
+            self.check_wrong("reason", rules, (0, 0), ("not", reason))
 
     def test_a_slot_that_is_none(self):
         rules = one_rule(p_neg(X))
@@ -388,7 +404,7 @@ class CheckTest(Case):
                  ("at", (0, 1), repeated(dict), None),
                  ("at", (0, 1), {"w": "2"}, repeated(tuple)), ("at", (0, repeated(tuple)), {"w": "2"}, None),
                  ("one", 0, ("at", (0, 1), {"w": "2"}, None)), ("at", (0, 1), {"w": "2"}, None, None), ("nowhere", ())]
-        for grounds in wrong + [value for _, value in odd_values()]:
+        for grounds in wrong + [value for _, value in odd_arguments()]:
             self.check_wrong("reason", rules, (0,), ("found", binding, grounds))
 
     def test_wrong_grounds_of_inside(self):
@@ -430,7 +446,7 @@ class CheckTest(Case):
             (rows[0], None, rows[2]), (rows[0], repeated(tuple), rows[2]), repeated(tuple), (repeated(tuple),) * 3,
             (rows[0], (repeated(tuple), MISFIT), rows[2]), (rows[0], ((3, 1), repeated(tuple)), rows[2]),
             (rows[0], ((3, 1), ("mismatch", repeated(tuple))), rows[2]), {0: rows}, nested(tuple)]
-        for value in wrong + [value for _, value in odd_values()]:
+        for value in wrong + [value for _, value in odd_arguments()]:
             self.check_wrong("reason", rules, (3,), ("not", ("condition", ("nowhere", value))))
         for value in (("nowhere",), ("nowhere", rows, None), ["nowhere", rows], ("somewhere", rows), rows,
                       ("each", rows),

@@ -7,7 +7,7 @@ from ruleengine.errors import (
 from ruleengine.flows import Flow, Plan, Question
 from ruleengine.forms import Form, Schema
 from ruleengine.trees import Like, Tree, Var
-from tests.helpers import Case, names, not_names, odd_values, repeated
+from tests.helpers import Case, names, not_names, odd_arguments, odd_values, repeated
 
 FORMS = (
     Form("Seq", "stmt", items="stmt*"), Form("If", "stmt", test="expr", then="stmt", other="stmt"),
@@ -45,7 +45,7 @@ def put(word, *values):
 
 def odd_points():
     """Pairs of a label and a value that is no point of the tree seq(seq(), seq())."""
-    return odd_values() + [
+    return odd_arguments() + [
         ("a text", "in"), ("a path", (0,)), ("the root's path", ()), ("a list", [(), "in"]),
         ("three", ((), "in", None)),
         ("a path in a list", ([0], "in")), ("too great", ((2,), "in")), ("too small", ((-1,), "in")),
@@ -76,7 +76,8 @@ class PlanTest(Case):
 
     def test_wrong_orders(self):
         texts = [(text, text) for text in ("", "Steps", "step", "steps ", "jump", "in")]
-        for label, order in odd_values() + texts + [("a tuple", ("steps",)), ("a list", ["steps"]), ("a plan", Plan())]:
+        for label, order in odd_arguments() + texts + [("a tuple", ("steps",)), ("a list", ["steps"]),
+                                                       ("a plan", Plan())]:
             with self.subTest(label):
                 self.check_raises(InvalidPlan, {"part": "order"}, lambda: Plan(order))
                 self.check_raises(InvalidPlan, {"part": "order"}, lambda: Plan(order=order, sets="1", uses="1"))
@@ -112,7 +113,7 @@ class QuestionTest(Case):
         self.assertEqual((question.start, question.avoid, question.goal), (3, 2, 1))
 
     def test_nothing_is_checked(self):
-        for label, value in odd_values():
+        for label, value in odd_arguments():
             with self.subTest(label):
                 question = Question(value, value, value)
                 self.assertTrue(question.start is value and question.avoid is value and question.goal is value)
@@ -158,7 +159,7 @@ class MakeFlowTest(Case):
 
     def test_other_names(self):
         texts = [(text, text) for text in ("", "seq", "stmt", "raw_Seq", "raw_text", "x" * 20000)]
-        for label, name in odd_values() + texts + [("a form", FORMS[0])]:
+        for label, name in odd_arguments() + texts + [("a form", FORMS[0])]:
             with self.subTest(label):
                 self.check_raises(UnknownName, {"word": name}, lambda: FLOW.plan(name))
 
@@ -168,7 +169,7 @@ class MakeFlowTest(Case):
             self.check_fault("form", word, {"Seq": Plan(), word: None})
 
     def test_wrong_plans(self):
-        for label, value in odd_values() + [("an order", "steps"), ("a class", Plan), ("a flow", FLOW),
+        for label, value in odd_arguments() + [("an order", "steps"), ("a class", Plan), ("a flow", FLOW),
                                             ("a tuple", (Plan(),))]:
             with self.subTest(label):
                 self.check_fault("plan", "Seq", {"Seq": value})
@@ -402,7 +403,7 @@ class AskTest(Case):
                  (*way[:2], ((0, False), "in"), *way[3:]), repeated(tuple), (repeated(tuple),) * 3,
                  (*way, repeated(list)),
                  ((), *way), {point: None for point in way}, (None, *way[1:])]
-        for value in wrong + [value for _, value in odd_values()]:
+        for value in wrong + [value for _, value in odd_arguments()]:
             self.check_raises(InvalidAnswer, {"part": "path"}, lambda: FLOW.check(tree, question, ("path", value)))
         for avoid in way[1:-1]:
             other = Question(START, (avoid,), ((1,), "in"))
@@ -436,14 +437,14 @@ class AskTest(Case):
                  (*least, None), (*least, ((2,), "in")), (*least, [(), "out"]), (*least, ((False,), "in")), (least,),
                  (*least, repeated(tuple)), repeated(tuple), (repeated(list),) * 3, {point: None for point in least},
                  (*least, ((), "deed")), FLOW.points(tree), (((False,), "deed"), ((0,), "in")), (*least, ((0,), "on"))]
-        for value in wrong + [value for _, value in odd_values() if value != ()]:
+        for value in wrong + [value for _, value in odd_arguments() if value != ()]:
             self.check_raises(InvalidAnswer, {"part": "closed"}, lambda: FLOW.check(tree, question, ("closed", value)))
 
     def test_wrong_forms_of_answers(self):
         tree = seq(STOP, seq())
         for question in (Question(START, (), ((1,), "in")), Question(START, (), ((0,), "in"))):
             right = FLOW.ask(tree, question)
-            values = odd_values() + [("a list", list(right)), ("alone", right[:1]), ("three", (*right, None)),
+            values = odd_arguments() + [("a list", list(right)), ("alone", right[:1]), ("three", (*right, None)),
                                      ("nothing", ()),
                                      ("turned", right[::-1]), ("another word", ("open", right[1])),
                                      ("a text", right[0]),
@@ -516,7 +517,7 @@ class DeedsTest(Case):
         self.check_raises(NoDeed, {"place": (2, 0)}, lambda: FLOW.to_bring(self.TREE, (2,), (2, 0)))
 
     def test_wrong_paths(self):
-        for label, path in odd_values() + [("too great", (3,)), ("a list", [0]), ("True", (True,)), ("a text", "0"),
+        for label, path in odd_arguments() + [("too great", (3,)), ("a list", [0]), ("True", (True,)), ("a text", "0"),
                                            ("negative", (-1,)), ("below a leaf", (0, 0)), ("a point", START)]:
             if path != ():
                 with self.subTest(label):

@@ -6,7 +6,7 @@ from ruleengine.errors import InvalidAnswer, OtherSchema
 from ruleengine.forms import Form, Schema
 from ruleengine.patterns import Pattern, check_cover, check_tree, covers
 from ruleengine.trees import Like, Rest, Tree, Var, Word
-from tests.helpers import Case, nested, odd_values, repeated
+from tests.helpers import Case, nested, odd_arguments, repeated
 from tests.samples import (
     ONE, OTHER, PASS, Q, R, S, SCHEMA, THREE, TWO, U, W, X, Y, Z, add, call, expr, let, make_schema, neg, negs, num,
     p_add, p_call, p_let, p_neg, p_num, some_things, stmt)
@@ -48,6 +48,8 @@ OTHERS = [
     (expr(p_add(X, RAW)), expr(p_add(X, X))), (expr(p_add(X, Y)), expr(p_add(RAW, Y))),
     (expr(p_call("f", X, Y, R)), expr(p_call("f", X, RAW, R))), (expr(p_neg(X)), expr(p_neg(p_neg(X)))),
     (stmt(p_let(W, X, (R,), (Q,))), stmt(p_let(W, X, (R,), ()))), (stmt(S), stmt(Like("raw_stmt", W))),
+    (stmt(p_let(W, ONE, (Rest("m"), ), (X,))), stmt(p_let(U, ONE, (R,), (RAW,)))),
+    (stmt(p_let(W, p_num(W), (S, Rest("m")), (X, Q))), stmt(p_let(U, p_num(U), (S, R), (RAW, Q)))),
 ]
 
 
@@ -198,7 +200,7 @@ class CheckCoverTest(Case):
 
     def test_wrong_forms(self):
         for one, other in ((expr(ONE), expr(X)), (expr(X), expr(ONE))):
-            answers = odd_values() + some_things() + [
+            answers = odd_arguments() + some_things() + [
                 ("a list", ["instance", {"x": ONE}]), ("a text", "instance"), ("alone", ("instance",)),
                 ("three", ("tree", TWO, None)), ("another word", ("trees", TWO)), ("capitals", ("Tree", TWO)),
                 ("a list of a word", (["tree"], TWO)), ("turned", (TWO, "tree")), ("nothing", ()),
@@ -213,7 +215,7 @@ class CheckCoverTest(Case):
         other = expr(p_add(p_call(W, Y, R), p_num(Word("t"))))
         right = {"w": U, "y": X, "r": (Q,), "t": "a"}
         self.assertEqual(check_cover(one, other, ("instance", right)), "instance")
-        values = odd_values() + [
+        values = odd_arguments() + [
             ("a Var", Var("z")), ("a Word", Word("z")), ("a Rest", R), ("another case", Var("X")), ("a tree", ONE),
             ("a text", "b"), ("its text", "u"), ("a text of a Word", "$u"), ("a text of a node", "x"),
             ("a row", (ONE,)), ("the Rest alone", Q), ("a list", [Q]), ("another Rest", (R,)), ("two", (X, Q)),
@@ -229,7 +231,7 @@ class CheckCoverTest(Case):
             self.check_wrong("instance", one, other, ("instance", {**less, name.upper(): right[name]}))
         self.check_wrong("instance", one, other, ("instance", {**right, "z": X}))
         self.check_wrong("instance", one, other, ("instance", {**right, None: X}))
-        for label, value in odd_values() + [("a list of pairs", list(right.items())), ("the names", tuple(right))]:
+        for label, value in odd_arguments() + [("a list of pairs", list(right.items())), ("the names", tuple(right))]:
             with self.subTest(label):
                 self.check_wrong("instance", one, other, ("instance", value))
 
@@ -250,7 +252,7 @@ class CheckCoverTest(Case):
         one, other = expr(p_add(X, Y)), expr(p_add(X, X))
         for tree in (add(ONE, TWO), add(ONE, neg(ONE)), add(num("a"), Tree("raw_expr", "a"))):
             self.assertEqual(check_cover(one, other, ("tree", tree)), "tree")
-        values = odd_values() + some_things() + [
+        values = odd_arguments() + some_things() + [
             ("it fits both", add(ONE, ONE)), ("it fits none", neg(ONE)), ("a Like", p_add(ONE, TWO)),
             ("another sort", PASS), ("not of the schema", add(ONE, Tree("Sub"))), ("a Var", X),
             ("not of the schema as a whole", Tree("Add", ONE, TWO, THREE)), ("its text", add(ONE, TWO).text),

@@ -6,7 +6,7 @@ from ruleengine.errors import InvalidPattern
 from ruleengine.forms import Form, Schema
 from ruleengine.patterns import Pattern
 from ruleengine.trees import Like, Rest, Tree, Var, Word
-from tests.helpers import Case, odd_values
+from tests.helpers import Case, odd_arguments, odd_values
 from tests.samples import (
     ONE, OTHER, PASS, Q, R, S, SCHEMA, TWO, U, W, X, Y, Z, add, call, expr, let, make_schema, negs, num, p_add, p_call,
     p_let, p_neg, p_num, some_things, stmt)
@@ -64,7 +64,7 @@ class PatternTest(Case):
     def test_takes_of_other_values(self):
         pattern = Pattern(SCHEMA, ALL_SORTS)
         texts = [(text, text) for text in ("", "W", "$w", "*r", "z", "Let", "expr", "text")]
-        for label, name in odd_values() + texts + some_things() + [("a Var", X)]:
+        for label, name in odd_arguments() + texts + some_things() + [("a Var", X)]:
             with self.subTest(label):
                 self.assertIsNone(pattern.takes(name))
 
@@ -88,7 +88,7 @@ class PatternTest(Case):
 
     def test_wrong_roots(self):
         others = some_things() + [("a row", (X,)), ("a row of trees", (ONE,)), ("a list", [ONE]), ("a text", "Num")]
-        for label, root in odd_values() + others:
+        for label, root in odd_arguments() + others:
             with self.subTest(label):
                 self.check_fault("root", None, root)
                 self.check_fault("root", None, root, "expr")
@@ -96,14 +96,14 @@ class PatternTest(Case):
 
     def test_wrong_sorts_of_a_var(self):
         texts = [(text, text) for text in ("", "text", "expr*", "Expr", "exprs", "raw_expr", "Num", "x" * 20000)]
-        for label, sort in odd_values() + texts + some_things():
+        for label, sort in odd_arguments() + texts + some_things():
             with self.subTest(label):
                 self.check_fault("sort", sort, X, sort)
         self.check_raises(InvalidPattern, {"fault": "sort", "item": None}, lambda: Pattern(SCHEMA, X))
 
     def test_wrong_sorts_of_nodes(self):
         texts = [(text, text) for text in ("", "text", "expr*", "stmt", "Num", "nothing")]
-        for label, sort in odd_values() + texts + some_things():
+        for label, sort in odd_arguments() + texts + some_things():
             if sort is not None:
                 with self.subTest(label):
                     self.check_fault("sort", sort, p_neg(X), sort)
@@ -249,7 +249,7 @@ class PatternTest(Case):
 
     def test_operators_with_other_values(self):
         pattern = expr(p_neg(X))
-        for label, value in odd_values() + [("its root", pattern.root), ("a tree", ONE), ("a schema", SCHEMA)]:
+        for label, value in odd_arguments() + [("its root", pattern.root), ("a tree", ONE), ("a schema", SCHEMA)]:
             with self.subTest(label):
                 for call_it in (lambda: pattern <= value, lambda: pattern < value, lambda: pattern & value,
                                 lambda: pattern | value, lambda: value <= pattern, lambda: value < pattern,

@@ -4,11 +4,11 @@ import collections
 import random
 import unittest
 
-from ruleengine.conditions import Inside
+from ruleengine.conditions import Has, Inside
 from ruleengine.errors import InvalidAnswer, InvalidPart, InvalidPath, InvalidRule
 from ruleengine.patterns import do_meet
 from ruleengine.rules import Rule, RuleSet
-from ruleengine.trees import Tree, Var
+from ruleengine.trees import Like, Rest, Tree, Var, Word
 from tests import second
 from tests.drawn import SCHEMA, draw_condition, draw_node, draw_tree
 from tests.helpers import Case
@@ -29,6 +29,39 @@ def draw_rules(rnd, many=3):
             return RuleSet(SCHEMA, *[draw_rule(rnd, "r" + str(number)) for number in range(many)])
         except (InvalidPart, InvalidRule):
             pass
+
+
+def draw_sharing_root(rnd):
+    """A small root whose variables are those of others, too."""
+    x, y, u = Var("x"), Var("y"), Word("u")
+    return rnd.choice((x, y, Like("Num", u), Like("Neg", x), Like("Neg", y), Like("Neg", Like("Num", u)),
+                       Like("Add", x, y),
+                       Like("Add", y, x), Like("Add", x, Like("Num", u)), Like("Call", u, (x, Rest("r")))))
+
+
+def draw_sharing_condition(rnd, nesting):
+    """A condition whose roots share variables."""
+    if rnd.randrange(4) == 0:
+        one, other = draw_sharing_condition(rnd, nesting), draw_sharing_condition(rnd, nesting)
+        return rnd.choice((-one, one & other, one | other, -one & other))
+    where = draw_sharing_condition(rnd, nesting - 1) if nesting > 1 else None
+    return rnd.choice((Has, Inside))(draw_sharing_root(rnd), where, sort="expr")
+
+
+def draw_sharing_rule(rnd, name):
+    """A rule whose conditions share variables with its pattern and with each other."""
+    return Rule(name, draw_sharing_root(rnd), draw_sharing_condition(rnd, 2), sort="expr")
+
+
+def draw_sharing_tree(rnd, levels=5):
+    """A tree in which the same things occur often."""
+    if levels <= 1 or rnd.randrange(5) == 0:
+        return num(rnd.choice("ab"))
+    if rnd.randrange(2):
+        return neg(draw_sharing_tree(rnd, levels - 1))
+    if rnd.randrange(4) == 0:
+        return Tree("Call", rnd.choice("ab"), (draw_sharing_tree(rnd, levels - 1),))
+    return Tree("Add", draw_sharing_tree(rnd, levels - 1), draw_sharing_tree(rnd, levels - 2))
 
 
 def draw_cases(seed, many):
@@ -83,22 +116,19 @@ class RunTest(Case):
         self.assertGreater(min(told[True], told[False]), 20)
 
     def test_rules_that_share_variables_with_deep_conditions(self):
-        # Chains in which every condition meets something, with texts that occur often.
         rnd = random.Random(22)
         told = collections.Counter()
-        for _ in range(300):
-            rules = draw_rules(rnd, 2)
-            tree = num(rnd.choice("ab"))
-            for _ in range(rnd.randrange(2, 9)):
-                tree = rnd.choice((neg, lambda one: Tree("Add", one, num(rnd.choice("ab"))),
-                                   lambda one: Tree("Call", rnd.choice("ab"),
-                                                    (one, one) if len(one) < 4 else (one,))))(tree)
+        for _ in range(600):
+            rules = RuleSet(SCHEMA, *[draw_sharing_rule(rnd, "r" + str(number)) for number in range(3)])
+            tree = draw_sharing_tree(rnd)
+            found = [(finding.path, finding.rule) for finding in rules.run(tree)]
             for path in tree.each_path():
                 for rule in rules.rules:
-                    word = rules.judge(rule.name, tree, path)[0]
-                    self.assertEqual(word == "found", second.finds(SCHEMA, rule, tree, path))
-                    told[word] += 1
-        self.assertGreater(min(told.values()), 200)
+                    wanted = second.finds(SCHEMA, rule, tree, path)
+                    self.assertEqual((path, rule.name) in found, wanted)
+                    self.assertEqual(rules.judge(rule.name, tree, path)[0] == "found", wanted)
+                    told[wanted] += 1
+        self.assertGreater(min(told.values()), 300)
 
 
 class JudgeTest(Case):

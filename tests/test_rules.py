@@ -7,7 +7,7 @@ from ruleengine.errors import InvalidRule, UnknownName
 from ruleengine.patterns import Pattern
 from ruleengine.rules import Finding, Rule, RuleSet
 from ruleengine.trees import Like, Rest, Tree, Var, Word
-from tests.helpers import Case, is_same, names, not_names, odd_values, repeated
+from tests.helpers import Case, is_same, names, not_names, odd_arguments, odd_values, repeated
 from tests.samples import (
     ONE, PASS, Q, R, S, SCHEMA, TWO, U, W, X, Y, add, expr, make_schema, negs, p_add, p_call, p_let, p_neg, p_num,
     some_things, stmt)
@@ -26,7 +26,7 @@ class RuleTest(Case):
         self.assertIsNone(Rule("a", root).condition)
 
     def test_nothing_is_checked(self):
-        for label, value in odd_values():
+        for label, value in odd_arguments():
             with self.subTest(label):
                 rule = Rule(value, value, value, sort=value)
                 self.assertTrue(rule.name is value and rule.root is value and rule.condition is value)
@@ -120,7 +120,7 @@ class MakeRuleSetTest(Case):
     def test_values_that_are_no_rules(self):
         others = [("a tuple", ("a", X)), ("a root", p_neg(X)), ("a condition", Has(p_neg(X))), ("a list", [RULES[0]]),
                   ("a tuple of rules", RULES), ("a set", RuleSet(SCHEMA)), ("a finding", Finding("a", (), {}))]
-        for label, value in odd_values() + some_things() + others:
+        for label, value in odd_arguments() + some_things() + others:
             with self.subTest(label):
                 self.check_fault(0, "rule", None, value)
                 self.check_fault(2, "rule", None, RULES[0], RULES[1], value, None)
@@ -155,7 +155,7 @@ class MakeRuleSetTest(Case):
                 (Like("Neg"), None, "parts", "Neg"), (p_call(Word("x"), X), None, "name", "x")):
             self.check_fault(0, fault, item, Rule("a", root, sort=sort))
             self.check_fault(1, fault, item, RULES[0], Rule("a", root, "nothing", sort=sort), None)
-        for label, sort in odd_values():
+        for label, sort in odd_arguments():
             with self.subTest(label):
                 self.check_fault(0, "sort", sort, Rule("a", X, sort=sort))
                 if sort is not None:
@@ -163,7 +163,7 @@ class MakeRuleSetTest(Case):
 
     def test_wrong_conditions(self):
         others = [("a tuple", (Has(p_neg(X)),)), ("a class", Has), ("a root", p_neg(X)), ("a rule", RULES[0])]
-        for label, value in odd_values() + some_things() + others:
+        for label, value in odd_arguments() + some_things() + others:
             if value is not None:
                 with self.subTest(label):
                     self.check_fault(0, "condition", None, Rule("a", p_neg(X), value))
@@ -181,7 +181,7 @@ class MakeRuleSetTest(Case):
             self.check_condition("sort", "Pass", kind(p_neg(PASS)))
             self.check_condition("parts", "Neg", kind(Like("Neg")))
             self.check_condition("name", "k", kind(p_call(Word("k"), Var("k"))))
-        for label, sort in odd_values():
+        for label, sort in odd_arguments():
             if sort is not None:
                 with self.subTest(label):
                     self.check_condition("sort", sort, Has(Var("k"), sort=sort))
@@ -288,7 +288,7 @@ class AskRuleSetTest(Case):
 
     def test_other_names(self):
         texts = [(text, text) for text in ("", "Neg", "neg ", "x", "expr", "x" * 20000)]
-        for label, name in odd_values() + some_things() + texts + [("a rule", RULES[0]), ("a tuple", ("neg",))]:
+        for label, name in odd_arguments() + some_things() + texts + [("a rule", RULES[0]), ("a tuple", ("neg",))]:
             with self.subTest(label):
                 self.assertTrue((name in self.rules) is False)
                 fields = {"word": name}

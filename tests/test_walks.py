@@ -6,7 +6,7 @@ from ruleengine.errors import WrongTree
 from ruleengine.forms import Form, Schema
 from ruleengine.patterns import Pattern, check_tree, mismatch
 from ruleengine.trees import Like, Rest, Tree, Var
-from tests.helpers import Case, odd_values
+from tests.helpers import Case, odd_arguments
 from tests.samples import (
     ONE, PASS, Q, R, S, SCHEMA, THREE, TWO, U, W, X, Y, Z, add, call, expr, let, make_schema, neg, negs, num, p_add,
     p_call, p_let, p_neg, p_num, some_things, stmt)
@@ -176,7 +176,7 @@ class InTest(Case):
         for pattern in (expr(X), stmt(S), expr(p_num(W)), expr(ONE)):
             others = [("a Like", p_num("1")), ("a Like with a Var", p_neg(X)), ("a Var", X), ("a text", "Num"),
                       ("a row", (ONE,)), ("a list", [ONE])]
-            for label, value in odd_values() + others + some_things():
+            for label, value in odd_arguments() + others + some_things():
                 with self.subTest(label):
                     self.assertTrue((value in pattern) is False)
 
