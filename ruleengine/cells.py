@@ -104,15 +104,30 @@ def measures(cells, tops, order):
     return sizes[order[-1]], levels[order[-1]]
 
 
-def built(cells, tops, order, is_small):
-    """Return the root for which the last cell of an order stands; variables are called x1, x2, .. as they occur."""
-    names = _names(cells, tops, order[-1])
+def built(cells, tops, order, names, is_small):
+    """Return the root for which the last cell of an order stands; the dict has the names of the variables in it."""
     parts = {}
     for number in order:
         word, text, below = cells[number]
         inner = [parts[tops[lower]] for lower in below]
         parts[number] = _part(word, names.get(number, text), inner, is_small)
     return parts[order[-1]]
+
+
+def names_below(cells, tops, top):
+    """Return a dict from the numbers of the variables below a cell to their names: x1, x2, .. as they occur."""
+    names = {}
+    seen = {}
+    waiting = [top]
+    while waiting:
+        number = waiting.pop()
+        if number not in seen:
+            seen[number] = True
+            word, _, below = cells[number]
+            if word in VARIABLES:
+                names[number] = f"x{len(names) + 1}"
+            waiting.extend([tops[lower] for lower in below[::-1]])
+    return names
 
 
 def _inside(part):
@@ -166,22 +181,6 @@ def _key(group):
 def _texts(row):
     """Return the tuple of the texts of the items of a row, and of a Rest behind them."""
     return tuple([item.text for item in row])
-
-
-def _names(cells, tops, top):
-    """Return a dict from the numbers of the variables below a cell to their names."""
-    names = {}
-    seen = {}
-    waiting = [top]
-    while waiting:
-        number = waiting.pop()
-        if number not in seen:
-            seen[number] = True
-            word, _, below = cells[number]
-            if word in VARIABLES:
-                names[number] = f"x{len(names) + 1}"
-            waiting.extend([tops[lower] for lower in below[::-1]])
-    return names
 
 
 def _part(word, text, inner, is_small):

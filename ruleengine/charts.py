@@ -38,9 +38,24 @@ class Chart:
         node = self.layout.number_at(value[0])
         return None if node is None else place_of(node, value[1])
 
+    def told_numbers(self, value):
+        """Return the numbers of the points in a tuple; None for any other value."""
+        if not isinstance(value, tuple):
+            return None
+        numbers = [self.number_of(point) for point in value]
+        return None if None in numbers else numbers
+
+    def told_points(self, numbers):
+        """Return the tuple of the points with some numbers."""
+        return tuple([self.point(number) for number in numbers])
+
     def deeds_that_set(self, variable):
         """Return the numbers of the points, ascending, at which a variable is set."""
         return [place_of(node, DEED) for node in self.setters if self.setters[node] == variable]
+
+    def deeds_that_use(self, variable):
+        """Return the numbers of the points, ascending, at which a variable is used."""
+        return [place_of(node, DEED) for node in self.users if self.users[node] == variable]
 
     def reached(self):
         """Return a dict of all points to which a way from the beginning leads."""
@@ -64,6 +79,24 @@ class Chart:
                     if after not in is_avoided:
                         waiting.append(after)
         return before
+
+    def is_way(self, start, avoided, goals, numbers):
+        """Tell if the points with some numbers are a way from a start to one of some goals."""
+        if len(numbers) < 2 or numbers[0] != start or numbers[-1] not in goals:
+            return False
+        is_avoided = {number: True for number in avoided}
+        if any([number in is_avoided for number in numbers[1:-1]]):
+            return False
+        return all([after in self.following[number] for number, after in zip(numbers, numbers[1:])])
+
+    def is_closed(self, start, avoided, goals, numbers):
+        """Tell if the points with some numbers are a closed set for a start that contains none of some goals."""
+        members = {number: True for number in numbers}
+        is_avoided = {number: True for number in avoided}
+        sources = [start] + [number for number in members if number not in is_avoided]
+        if any([goal in members for goal in goals]):
+            return False
+        return all([after in members for number in sources for after in self.following[number]])
 
     def _text_in(self, schema, number, slot):
         """Return the text in a slot of a node."""
@@ -122,3 +155,11 @@ class Chart:
 def place_of(node, word):
     """Return the number of a point from that of its node and its word."""
     return node * len(WORDS) + WORDS.index(word)
+
+
+def way_to(before, start, goal):
+    """Return the numbers of the points on a way, where the one before each is known from a spread."""
+    way = [goal, before[goal]]
+    while way[-1] != start:
+        way.append(before[way[-1]])
+    return way[::-1]

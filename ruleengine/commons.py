@@ -1,6 +1,6 @@
 """What two patterns have in common: their greatest common instance, and the least common generalization."""
 
-from ruleengine.cells import VARIABLES, built, cells_of, general_cells, measures, order_below
+from ruleengine.cells import VARIABLES, built, cells_of, general_cells, measures, names_below, order_below
 from ruleengine.trees import Like
 
 
@@ -13,7 +13,7 @@ def meeting(one, other):
     cells = cells_of(one, 0)
     second = len(cells)
     cells = cells + cells_of(other, second)
-    tops = _merged(cells, second)
+    tops = merged(cells, 0, second)
     if tops is None:
         return "clash", None
     order = order_below(cells, tops, tops[0])
@@ -26,9 +26,9 @@ def common_root(table):
     """Return the root of the common instance with this table; None if it is larger than a pattern may be."""
     cells, tops, order = table
     # A common instance can be so large that it can be measured only, not built.
-    if not _is_small(cells, tops, order):
+    if not is_small(cells, tops, order):
         return None
-    return built(cells, tops, order, True)
+    return built(cells, tops, order, names_below(cells, tops, order[-1]), True)
 
 
 def general_root(roots):
@@ -36,33 +36,42 @@ def general_root(roots):
     cells = general_cells(roots)
     tops = list(range(len(cells)))
     order = order_below(cells, tops, 0)
-    return built(cells, tops, order, _is_small(cells, tops, order))
+    return built(cells, tops, order, names_below(cells, tops, 0), is_small(cells, tops, order))
 
 
-def _is_small(cells, tops, order):
+def is_small(cells, tops, order):
     """Tell if the root with these cells is no larger than a pattern may be."""
     size, levels = measures(cells, tops, order)
     return size <= Like.MAX_SIZE and levels <= Like.MAX_LEVELS
 
 
-def _merged(cells, second):
-    """Return for each cell the one that stands for it if the first and a second one are the same; None for a clash.
+def merged(cells, one, other):
+    """Return a list that tells for each cell which one stands for it if two cells are the same; None for a clash.
 
     A variable stands for a cell only if nothing but variables is the same as it.
     """
     tops = list(range(len(cells)))
-    pairs = [(0, second)]
+    pairs = [(one, other)]
     while pairs:
-        one, other = pairs.pop()
-        one, other = tops[one], tops[other]
-        if one == other:
+        left, right = pairs.pop()
+        left = _top(tops, left)
+        right = _top(tops, right)
+        if left == right:
             continue
-        if cells[one][0] not in VARIABLES:
-            if cells[other][0] in VARIABLES:
-                one, other = other, one
-            elif cells[one][:2] != cells[other][:2]:
+        if cells[left][0] not in VARIABLES:
+            if cells[right][0] in VARIABLES:
+                left, right = right, left
+            elif cells[left][:2] != cells[right][:2]:
                 return None
             else:
-                pairs.extend(list(zip(cells[one][2], cells[other][2])))
-        tops = [other if top == one else top for top in tops]
-    return tops
+                pairs.extend(list(zip(cells[left][2], cells[right][2])))
+        tops[left] = right
+    return [_top(tops, number) for number in tops]
+
+
+def _top(tops, number):
+    """Return the number of the cell that stands for a cell."""
+    top = number
+    while tops[top] != top:
+        top = tops[top]
+    return top

@@ -1,6 +1,6 @@
 """The flow of programs: in which order the nodes of a tree are performed."""
 
-from ruleengine.charts import DEED, IN, Chart, place_of
+from ruleengine.charts import DEED, IN, Chart, place_of, way_to
 from ruleengine.errors import InvalidAnswer, InvalidFlow, InvalidPath, InvalidPlan, InvalidPoint, NoDeed, UnknownName
 from ruleengine.forms import RAW
 from ruleengine.kinds import TEXT, is_name, is_told, is_word
@@ -59,66 +59,62 @@ class Flow:
 
     def points(self, tree):
         """Return the tuple of all points of a tree, ascending."""
-        chart = self._chart(tree)
-        return tuple([chart.point(number) for number in range(len(chart.following))])
+        chart = self.chart_of(tree)
+        return chart.told_points(list(range(len(chart.following))))
 
     def nexts(self, tree, point):
         """Return the tuple of the next points of a point, ascending."""
-        chart = self._chart(tree)
+        chart = self.chart_of(tree)
         number = _point_number(chart, point)
-        return tuple([chart.point(after) for after in chart.following[number]])
+        return chart.told_points(chart.following[number])
 
     def ask(self, tree, question):
         """Return ("path", points) with a shortest way for a question, or ("closed", points) with a closed set."""
-        chart = self._chart(tree)
+        chart = self.chart_of(tree)
         start, avoided, goal = _question_numbers(chart, question)
         before = chart.spread(start, avoided)
         if goal not in before:
-            closed = [number for number in range(len(chart.following)) if number in before]
-            return "closed", tuple([chart.point(number) for number in closed])
-        way = [goal, before[goal]]
-        while way[-1] != start:
-            way.append(before[way[-1]])
-        return "path", tuple([chart.point(number) for number in way[::-1]])
+            return "closed", chart.told_points([number for number in range(len(chart.following)) if number in before])
+        return "path", chart.told_points(way_to(before, start, goal))
 
     def check(self, tree, question, answer):
         """Return the first item of an answer that is right for a question; raise InvalidAnswer for any other value."""
-        chart = self._chart(tree)
+        chart = self.chart_of(tree)
         start, avoided, goal = _question_numbers(chart, question)
         if not is_told(answer, 2, ("path", "closed")):
             raise InvalidAnswer("form")
-        numbers = _told_numbers(chart, answer[1])
+        numbers = chart.told_numbers(answer[1])
         if answer[0] == "path":
-            is_right = numbers is not None and _is_way(chart, start, avoided, goal, numbers)
+            is_right = numbers is not None and chart.is_way(start, avoided, [goal], numbers)
         else:
-            is_right = numbers is not None and _is_closed(chart, start, avoided, goal, numbers)
+            is_right = numbers is not None and chart.is_closed(start, avoided, [goal], numbers)
         if not is_right:
             raise InvalidAnswer(answer[0])
         return answer[0]
 
     def to_reach(self, tree, path):
         """Return the question whether a node other than the root is reached."""
-        chart = self._chart(tree)
+        chart = self.chart_of(tree)
         if _node_number(chart, path) == 0:
             raise InvalidPath(path)
         return Question(START, (), (path, IN))
 
     def to_do(self, tree, path):
         """Return the question whether a node is done."""
-        _node_number(self._chart(tree), path)
+        _node_number(self.chart_of(tree), path)
         return Question(START, (), (path, DEED))
 
     def to_unset(self, tree, path):
         """Return the question whether the use at a node is maybe unset."""
-        chart = self._chart(tree)
+        chart = self.chart_of(tree)
         node = _node_number(chart, path)
         if node not in chart.users:
             raise NoDeed(path)
-        return Question(START, _deed_points(chart, chart.users[node]), (path, DEED))
+        return Question(START, chart.told_points(chart.deeds_that_set(chart.users[node])), (path, DEED))
 
     def to_bring(self, tree, path, use):
         """Return the question whether the set at a node brings to the use at another one."""
-        chart = self._chart(tree)
+        chart = self.chart_of(tree)
         node = _node_number(chart, path)
         other = _node_number(chart, use)
         if node not in chart.setters:
@@ -126,11 +122,11 @@ class Flow:
         variable = chart.setters[node]
         if chart.users.get(other) != variable:
             raise NoDeed(use)
-        return Question((path, DEED), _deed_points(chart, variable), (use, DEED))
+        return Question((path, DEED), chart.told_points(chart.deeds_that_set(variable)), (use, DEED))
 
     def unreached(self, tree):
         """Yield the paths of the nodes that are not reached, ascending."""
-        chart = self._chart(tree)
+        chart = self.chart_of(tree)
         reached = chart.reached()
         for node, path in enumerate(chart.layout.paths):
             if node > 0 and place_of(node, IN) not in reached:
@@ -138,7 +134,7 @@ class Flow:
 
     def unset_uses(self, tree):
         """Yield the paths of the uses that are maybe unset, ascending."""
-        chart = self._chart(tree)
+        chart = self.chart_of(tree)
         spreads = {}
         for variable in chart.users.values():
             if variable not in spreads:
@@ -149,17 +145,16 @@ class Flow:
 
     def idle_sets(self, tree):
         """Yield the paths of the idle sets, ascending."""
-        chart = self._chart(tree)
+        chart = self.chart_of(tree)
         reached = chart.reached()
         for node, variable in chart.setters.items():
             deed = place_of(node, DEED)
             if deed in reached:
                 spread = chart.spread(deed, chart.deeds_that_set(variable))
-                uses = [use for use in chart.users if chart.users[use] == variable and place_of(use, DEED) in spread]
-                if len(uses) == 0:
+                if not any([use in spread for use in chart.deeds_that_use(variable)]):
                     yield chart.layout.paths[node]
 
-    def _chart(self, tree):
+    def chart_of(self, tree):
         """Return the chart of a tree; raise WrongTree."""
         check_tree(self.schema, tree)
         return Chart(self.schema, self._plans, tree)
@@ -193,41 +188,9 @@ def _question_numbers(chart, question):
     return start, avoided, _point_number(chart, question.goal)
 
 
-def _told_numbers(chart, value):
-    """Return the numbers of the points in a tuple; None for any other value."""
-    if not isinstance(value, tuple):
-        return None
-    numbers = [chart.number_of(point) for point in value]
-    return None if None in numbers else numbers
-
-
 def _node_number(chart, path):
     """Return the number of the node at a path; raise InvalidPath for any other value."""
     node = chart.layout.number_at(path)
     if node is None:
         raise InvalidPath(path)
     return node
-
-
-def _deed_points(chart, variable):
-    """Return the tuple of the points at which a variable is set, ascending."""
-    return tuple([chart.point(number) for number in chart.deeds_that_set(variable)])
-
-
-def _is_way(chart, start, avoided, goal, numbers):
-    """Tell if the points with these numbers are a way."""
-    if len(numbers) < 2 or numbers[0] != start or numbers[-1] != goal:
-        return False
-    is_avoided = {number: True for number in avoided}
-    if any([number in is_avoided for number in numbers[1:-1]]):
-        return False
-    return all([after in chart.following[number] for number, after in zip(numbers, numbers[1:])])
-
-
-def _is_closed(chart, start, avoided, goal, numbers):
-    """Tell if the points with these numbers are a closed set."""
-    members = {number: True for number in numbers}
-    is_avoided = {number: True for number in avoided}
-    sources = [start] + [number for number in numbers if number not in is_avoided]
-    afters = [after for number in sources for after in chart.following[number]]
-    return goal not in members and all([after in members for after in afters])

@@ -46,3 +46,14 @@ class Layout:
             numbers.append(child)
             child = self.end_of(child)
         return numbers
+
+    def inner_numbers(self):
+        """Return the numbers of all nodes, each behind those of the nodes below it."""
+        numbers = []
+        waiting = [0]
+        # Taken from behind, each node comes ahead of those below it, and the last one of them first.
+        while waiting:
+            number = waiting.pop()
+            numbers.append(number)
+            waiting.extend(self.child_numbers(number))
+        return numbers[::-1]

@@ -26,12 +26,13 @@ class Finding:
     def __init__(self, rule, path, binding):
         self.rule = rule
         self.path = path
-        self._things = dict(binding)
+        # Nothing is checked, so a finding that none is can be told later.
+        self._things = dict(binding) if isinstance(binding, dict) else binding
 
     @property
     def binding(self):
         """What the variables of the pattern stand for."""
-        return dict(self._things)
+        return dict(self._things) if isinstance(self._things, dict) else self._things
 
     def __eq__(self, other):
         if not isinstance(other, Finding):
@@ -84,7 +85,13 @@ class RuleSet:
 
     def pattern(self, name):
         """Return the pattern of a rule."""
-        return self._known_probe(name).wanted
+        return self.probe_for(name).wanted
+
+    def probe_for(self, name):
+        """Return the probe of a rule."""
+        if name not in self:
+            raise UnknownName(name)
+        return self._probes[name]
 
     def relation(self, one, other):
         """Return how the patterns of two rules stand to each other."""
@@ -102,7 +109,7 @@ class RuleSet:
         """Yield the findings, ascending by paths, and at each path in the order of the rules."""
         check_tree(self.schema, tree)
         scene = Scene(self.schema, tree)
-        found = [(name, probe, scene.satisfying(probe, {})) for name, probe in self._probes.items()]
+        found = [(name, probe, scene.found_by(probe)) for name, probe in self._probes.items()]
         for number, path in enumerate(scene.layout.paths):
             for name, probe, nodes in found:
                 if is_in(number, nodes):
@@ -120,6 +127,14 @@ class RuleSet:
             return "found", things_in(entry), evidence(scene, probe.inner[0], number, entry, True)
         return "not", ("condition", evidence(scene, probe.inner[0], number, entry, False))
 
+    def binding_at(self, name, tree, path):
+        """Return the binding with which a rule finds a node, or None."""
+        probe, scene, number = self._place(name, tree, path)
+        entry = scene.entry(probe, number)
+        if entry is None or not all([scene.holds(inner, number, entry) for inner in probe.inner]):
+            return None
+        return things_in(entry)
+
     def check(self, name, tree, path, answer):
         """Return the first item of an answer that judge could give; raise InvalidAnswer for any other value."""
         probe, scene, number = self._place(name, tree, path)
@@ -136,15 +151,9 @@ class RuleSet:
             raise InvalidAnswer("reason")
         return answer[0]
 
-    def _known_probe(self, name):
-        """Return the probe of a rule."""
-        if name not in self:
-            raise UnknownName(name)
-        return self._probes[name]
-
     def _place(self, name, tree, path):
         """Return the probe of a rule, the scene of a tree, and the number of the node at a path."""
-        probe = self._known_probe(name)
+        probe = self.probe_for(name)
         check_tree(self.schema, tree)
         scene = Scene(self.schema, tree)
         number = scene.layout.number_at(path)

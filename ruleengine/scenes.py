@@ -11,20 +11,27 @@ from ruleengine.walks import WRONG_FORM, walk_tree
 
 
 class Scene:
-    """A tree of a schema, with what was found out about probes in it so far."""
+    """A tree of a schema, with what was found out about probes in it so far.
 
-    def __init__(self, schema, tree):
+    Walks are known by the texts of their nodes, so those of an earlier scene can be taken where the trees have much in
+    common.
+    """
+
+    def __init__(self, schema, tree, earlier=None):
         self.schema = schema
         self.layout = Layout(tree)
+        self.walks = {}
+        self._earlier = {} if earlier is None else earlier.walks
+        self._forms = _numbers_by_form(self.layout.nodes)
         self._everywhere = span(0, len(tree))
         self._below = [span(number + 1, self.layout.end_of(number)) for number in range(len(tree))]
         self._above = _sets_above(self.layout.uppers)
-        self._walks = {}
         self._entries = {}
         self._tables = {}
         self._groups = {}
         self._seen = {}
         self._truths = {}
+        self._finds = {}
 
     def entry(self, probe, number):
         """Return the binding with which a node fits the root of a probe where nothing is bound, or None."""
@@ -60,6 +67,12 @@ class Scene:
         if len(probe.inner) == 0 or nodes == 0:
             return nodes
         return nodes & self._truth(probe.inner[0], probe, bound)
+
+    def found_by(self, probe):
+        """Return the set of all nodes that a rule finds."""
+        if probe not in self._finds:
+            self._finds[probe] = self.satisfying(probe, {})
+        return self._finds[probe]
 
     def first_place(self, probe, number, bound):
         """Return the first node at which Has or Inside finds what it looks for, or None."""
@@ -110,9 +123,11 @@ class Scene:
 
     def _found_from(self, probe, owner, bound):
         """Return the set of the nodes that fit the root of an owner and at which its inner Has or Inside holds."""
-        groups = self._grouped(probe, owner)
         table = self._fit_sets(probe)
         rows = table.get(_keys(bound, probe.old), {})
+        if len(rows) == 0:
+            return 0
+        groups = self._grouped(probe, owner)
         found = 0
         for keys, nodes in rows.items():
             same = groups.get(keys, {})
@@ -178,11 +193,10 @@ class Scene:
         """Return the pairs of the nodes that fit the root of a probe and the bindings with which they do."""
         if probe.label not in self._entries:
             root = probe.wanted.root
-            pairs = []
-            for number, node in enumerate(self.layout.nodes):
-                # Most nodes have another form, and need no walk.
-                if isinstance(root, Var) or node.form == root.form:
-                    pairs.append((number, self.entry(probe, number)))
+            numbers = list(range(len(self.layout.nodes)))
+            if not isinstance(root, Var):
+                numbers = self._forms.get(root.form, [])
+            pairs = [(number, self.entry(probe, number)) for number in numbers]
             self._entries[probe.label] = [pair for pair in pairs if pair[1] is not None]
         return self._entries[probe.label]
 
@@ -193,14 +207,31 @@ class Scene:
 
     def _walked(self, probe, number):
         """Return the binding and the first mismatch where nothing is bound; one of both is None."""
-        at = (probe.label, number)
-        if at not in self._walks:
-            found, first = self._walk(probe, number, {})
-            entry = None
-            if found is not None:
-                entry = {name: (_key_of(found[name]), found[name]) for name in found}
-            self._walks[at] = (entry, first)
-        return self._walks[at]
+        root = probe.wanted.root
+        node = self.layout.nodes[number]
+        # Most nodes have another form, and need no walk.
+        if not isinstance(root, Var) and root.form != node.form:
+            return None, WRONG_FORM
+        at = (probe.label, node.text)
+        if at not in self.walks:
+            self.walks[at] = self._earlier[at] if at in self._earlier else self._fresh_walk(probe, number)
+        return self.walks[at]
+
+    def _fresh_walk(self, probe, number):
+        """Walk through the root of a probe and a node where nothing is bound."""
+        found, first = self._walk(probe, number, {})
+        entry = None
+        if found is not None:
+            entry = {name: (_key_of(found[name]), found[name]) for name in found}
+        return entry, first
+
+
+def _numbers_by_form(nodes):
+    """Return a dict from the forms of nodes to the lists of their numbers."""
+    numbers = {}
+    for number, node in enumerate(nodes):
+        numbers.setdefault(node.form, []).append(number)
+    return numbers
 
 
 def _sets_above(uppers):

@@ -58,6 +58,23 @@ def replaced(part, values):
     return part
 
 
+def nodes_in(root):
+    """Return all nodes of a root with forms, and a dict of how often each variable occurs in it."""
+    nodes = []
+    times = {}
+    waiting = [root]
+    while waiting:
+        part = waiting.pop()
+        if isinstance(part, (Like, Tree)):
+            nodes.append(part)
+            waiting.extend(list(part.parts))
+        elif isinstance(part, tuple):
+            waiting.extend(list(part))
+        elif is_variable(part):
+            times[part.name] = times.get(part.name, 0) + 1
+    return nodes, times
+
+
 def shape_text(root, taken):
     """Return the text of a root whose variables are called x1, x2, .. in the order in which they occur."""
     values = {}

@@ -18,7 +18,7 @@ class Tree:
         for spot, part in enumerate(parts):
             if not _is_tree_part(part):
                 raise InvalidTree(spot)
-        children = _nodes_among(parts)
+        children = nodes_among(parts)
         size, levels = _measures_above(children)
         if size > Tree.MAX_NODES or levels > Tree.MAX_LEVELS:
             raise InvalidTree("size")
@@ -61,10 +61,15 @@ class Tree:
         """Return the tree with another tree in place of the node at a path."""
         if path not in self:
             raise InvalidPath(path)
+        uppers = []
+        node = self
+        for number in path:
+            uppers.append(node)
+            node = node.children[number]
         node = other
-        for depth in reversed(range(len(path))):
-            upper = self[path[:depth]]
-            parts = _exchanged(upper.parts, path[depth], node)
+        for upper, number in reversed(list(zip(uppers, path))):
+            children = [node if at == number else child for at, child in enumerate(upper.children)]
+            parts = parts_with(upper.parts, children)
             node = Tree(upper.form, *parts)
         return node
 
@@ -122,7 +127,7 @@ class Like:
         for spot, part in enumerate(parts):
             if not _is_like_part(part):
                 raise InvalidPart(spot)
-        size, levels = _measures_above(_nodes_among(parts))
+        size, levels = _measures_above(nodes_among(parts))
         if size > Like.MAX_SIZE or levels > Like.MAX_LEVELS:
             raise InvalidPart("size")
         self.form = form
@@ -175,7 +180,7 @@ def row_items(row):
     return row
 
 
-def _nodes_among(parts):
+def nodes_among(parts):
     """Return the nodes and Vars among parts, in the order of slots and rows."""
     nodes = []
     for part in parts:
@@ -207,17 +212,17 @@ def _node_at(tree, path):
     return node
 
 
-def _exchanged(parts, number, node):
-    """Return a list of the parts, with a node in place of the child with this number."""
+def parts_with(parts, nodes):
+    """Return a list of the parts, with other nodes in place of those among them, in the order of slots and rows."""
     changed = []
     passed = 0
     for part in parts:
         if isinstance(part, tuple):
-            row = [node if passed + at == number else item for at, item in enumerate(part)]
-            changed.append(tuple(row))
-            passed += len(part)
-        elif isinstance(part, Tree):
-            changed.append(node if passed == number else part)
+            many = len(row_items(part))
+            changed.append(tuple(nodes[passed:passed + many]) + part[many:])
+            passed = passed + many
+        elif is_node(part):
+            changed.append(nodes[passed])
             passed += 1
         else:
             changed.append(part)

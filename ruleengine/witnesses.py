@@ -12,20 +12,20 @@ def each_witness(schema, one, other, taken):
     The dict tells what the variables of the first root stand for. Each place at which the two roots differ shows in
     the plain tree, or in the one in which the variable at this place is replaced by something else.
     """
-    fresh = _fresh_texts([one, other], len(taken) + 1)
+    fresh = fresh_texts([one, other], len(taken) + 1)
     plain = {}
     for name, text in zip(list(taken), fresh):
         plain[name] = _plain_thing(taken[name], text)
     yield replaced(one, plain)
     for name, takes in taken.items():
         if takes.endswith(ROW_SIGN):
-            yield replaced(one, {**plain, name: (_raw_leaf(sort_taken(takes), fresh[-1]),)})
+            yield replaced(one, {**plain, name: (raw_leaf(sort_taken(takes), fresh[-1]),)})
     for name, takes in taken.items():
         if takes != TEXT and not takes.endswith(ROW_SIGN):
             yield replaced(one, {**plain, name: _declared_node(schema, takes, fresh[-1])})
 
 
-def _fresh_texts(roots, many):
+def fresh_texts(roots, many):
     """Return so many different texts that are none of the texts in some roots."""
     used = {}
     waiting = list(roots)
@@ -48,10 +48,10 @@ def _plain_thing(takes, text):
         return text
     if takes.endswith(ROW_SIGN):
         return ()
-    return _raw_leaf(takes, text)
+    return raw_leaf(takes, text)
 
 
-def _raw_leaf(sort, text):
+def raw_leaf(sort, text):
     """Return a node of the raw form of a sort."""
     return Tree(RAW + sort, text)
 

@@ -26,8 +26,23 @@ CLASSES = {
         "Flow": ("plan", "points", "nexts", "ask", "check", "to_reach", "to_do", "to_unset", "to_bring", "unreached",
                  "unset_uses", "idle_sets"),
     },
+    "ruleengine.guards": {
+        "Reached": ("__and__", "__or__", "__neg__"), "Unset": ("__and__", "__or__", "__neg__"),
+        "Later": ("__and__", "__or__", "__neg__"), "FlowRules": ("run", "judge", "check"),
+    },
+    "ruleengine.fixes": {"Fixer": ("template", "fix", "fix_all", "settles", "shrinks", "finish")},
+    "ruleengine.endings": {"Crossing": ()},
+    "ruleengine.benches": {
+        "Suppression": ("__eq__",), "Report": (),
+        "Bench": ("put", "suppress", "undo", "report", "history"),
+    },
 }
-FUNCTIONS = {"ruleengine.patterns": ("mismatch", "check_tree", "do_meet", "covers", "check_cover", "learned")}
+FUNCTIONS = {
+    "ruleengine.patterns": ("mismatch", "check_tree", "do_meet", "covers", "check_cover", "learned"),
+    "ruleengine.fixes": ("do_overlap", "innermost", "outermost"),
+    "ruleengine.endings": ("all_crossings", "decide_endings", "check_endings"),
+    "ruleengine.benches": ("reported",),
+}
 
 
 def parameters(call):
@@ -110,6 +125,45 @@ class InterfaceTest(unittest.TestCase):
                   "unset_uses": ["tree"], "idle_sets": ["tree"]}
         for name, named in wanted.items():
             self.assertEqual(parameters(getattr(flows.Flow, name)), ["self", *named])
+
+    def test_parameters_of_guards(self):
+        guards = importlib.import_module("ruleengine.guards")
+        self.assertEqual(parameters(guards.Reached), [])
+        self.assertEqual(parameters(guards.Unset), ["word"])
+        self.assertEqual(parameters(guards.Later), ["word"])
+        for kind in (guards.Reached, guards.Unset, guards.Later):
+            self.assertEqual(kind.__bases__, (guards.Guard,))
+        self.assertEqual(parameters(guards.FlowRules), ["rules", "flow", "guards"])
+        self.assertEqual(parameters(guards.FlowRules.run), ["self", "tree"])
+        self.assertEqual(parameters(guards.FlowRules.judge), ["self", "name", "tree", "path"])
+        self.assertEqual(parameters(guards.FlowRules.check), ["self", "name", "tree", "path", "answer"])
+
+    def test_parameters_of_fixes(self):
+        fixes = importlib.import_module("ruleengine.fixes")
+        self.assertEqual(parameters(fixes.Fixer), ["rules", "templates"])
+        wanted = {"template": ["name"], "fix": ["tree", "finding"], "fix_all": ["tree", "*findings"],
+                  "settles": ["name"], "shrinks": ["name"], "finish": ["tree", "order='outer'"]}
+        for name, named in wanted.items():
+            self.assertEqual(parameters(getattr(fixes.Fixer, name)), ["self", *named])
+        self.assertEqual(parameters(fixes.do_overlap), ["one", "other"])
+        self.assertEqual(parameters(fixes.innermost), ["findings"])
+        self.assertEqual(parameters(fixes.outermost), ["findings"])
+
+    def test_parameters_of_endings(self):
+        endings = importlib.import_module("ruleengine.endings")
+        self.assertEqual(parameters(endings.all_crossings), ["fixer"])
+        self.assertEqual(parameters(endings.decide_endings), ["fixer"])
+        self.assertEqual(parameters(endings.check_endings), ["fixer", "answer"])
+
+    def test_parameters_of_benches(self):
+        benches = importlib.import_module("ruleengine.benches")
+        self.assertEqual(parameters(benches.Suppression), ["path", "*names"])
+        self.assertEqual(parameters(benches.reported), ["rules", "tree", "*suppressions"])
+        self.assertEqual(parameters(benches.Bench), ["rules", "tree"])
+        wanted = {"put": ["path", "other"], "suppress": ["path", "*names"], "undo": [], "report": [], "history": []}
+        for name, named in wanted.items():
+            self.assertEqual(parameters(getattr(benches.Bench, name)), ["self", *named])
+        self.assertEqual(vars(benches.Bench)["MAX_EDITS"], 60)
 
     def test_errors_stand_in_their_module(self):
         errors = importlib.import_module("ruleengine.errors")

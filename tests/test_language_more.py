@@ -151,9 +151,11 @@ class CallTest(unittest.TestCase):
     def test_generators_are_iterated_at_once(self):
         generators = {node.name for _, _, node in functions() if any(isinstance(item, (ast.Yield, ast.YieldFrom))
                                                                     for item in ast.walk(node))}
-        names = collections.Counter(node.name for _, _, node in functions())
+        for name, _, node in functions():
+            # Two classes of the interface have a run; both are generators, so a call by this name always gives one.
+            if node.name in generators:
+                self.assertTrue(any(isinstance(item, (ast.Yield, ast.YieldFrom)) for item in ast.walk(node)), name)
         for generator in generators:
-            self.assertEqual(names[generator], 1, generator)
             self.assertNotIn(generator, VALUE_METHODS)
         for name, node in nodes(ast.Call):
             if (called(node) or "").lstrip(".") in generators:
