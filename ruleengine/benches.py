@@ -67,8 +67,7 @@ class Bench:
     def put(self, path, other):
         """Put a tree at a path; the suppressions properly below it are taken away."""
         check_tree(self.rules.schema, other)
-        if path not in self.tree:
-            raise InvalidPath(path)
+        # The node at a value that is no path raises InvalidPath.
         if not _have_one_sort(self.rules.schema, self.tree[path], other):
             raise WrongTree(())
         tree = self.tree.put(path, other)

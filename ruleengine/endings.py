@@ -155,7 +155,7 @@ def _are_joined(fixer, crossings, value):
             return False
         last = _led(fixer, crossing.trees[1], row[0])
         other = _led(fixer, crossing.trees[2], row[1])
-        if last is None or other is None or last != other:
+        if last is None or last != other:
             return False
     return True
 

@@ -22,8 +22,7 @@ class Fixer:
     def __init__(self, rules, templates):
         table = {}
         for name, root in templates.items():
-            if name not in rules:
-                raise UnknownName(name)
+            # The pattern of a name that is not one of a rule raises UnknownName.
             table[name] = _checked_template(rules.pattern(name), name, root)
         self.rules = rules
         self.fixable = tuple([rule.name for rule in rules.rules if rule.name in table])

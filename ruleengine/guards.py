@@ -3,7 +3,7 @@
 Each class has the operators in its own body, because the interface is to stand there and not only in a base class.
 """
 
-from ruleengine.errors import InvalidAnswer, InvalidGuard, OtherSchema, UnknownName
+from ruleengine.errors import InvalidAnswer, InvalidGuard, OtherSchema
 from ruleengine.kinds import TEXT, is_told
 from ruleengine.watches import Watch
 
@@ -115,8 +115,7 @@ class FlowRules:
         if rules.schema != flow.schema:
             raise OtherSchema()
         for name, guard in guards.items():
-            if name not in rules:
-                raise UnknownName(name)
+            # The pattern of a name that is not one of a rule raises UnknownName.
             _check_guard(rules.pattern(name), name, guard)
         self.rules = rules
         self.flow = flow
