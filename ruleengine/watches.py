@@ -6,9 +6,6 @@ Each method takes a guard, the number of a node, and a dict from names to what t
 from ruleengine.charts import DEED, IN, place_of, way_to
 from ruleengine.kinds import is_number, is_same, is_told
 
-# The first of all points is the "in" of the root.
-START = place_of(0, IN)
-
 
 class Watch:
     """The chart of a tree, with what was found out about guards in it so far."""
@@ -121,4 +118,5 @@ def _is_root(guard, node):
 
 def _start(guard, node):
     """Return the number of the point at which the ways for a guard begin."""
-    return place_of(node, DEED) if guard.WORD == "later" else START
+    # The first of all points is the "in" of the root.
+    return place_of(node, DEED) if guard.WORD == "later" else place_of(0, IN)
